@@ -35,6 +35,11 @@ func someNumbers() []int {
 	return list
 }
 
+// fewNumbers are some for the second one of two.
+func fewNumbers() []int {
+	return []int{-5000, -4999, -4900, -98, -75, -14, -7, -3, -2, -1, 0, 1, 2, 3, 5, 6, 8, 17, 18, 50, 289, 720, 4987, 4993, 4999, 5000}
+}
+
 // allNumbers yields each number.
 func allNumbers() iter.Seq[int] {
 	return func(yield func(int) bool) {
