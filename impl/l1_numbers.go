@@ -91,6 +91,17 @@ func (n number) power(e int, m int) int {
 	return result
 }
 
+// core returns the core and the root part of an integer that is not 0. It may be greater than a number, as products are.
+func (n number) core() (int, int) {
+	root := 1
+	for p, k := range n.primePowers() {
+		for range k / 2 {
+			root *= p
+		}
+	}
+	return int(n) / (root * root), root
+}
+
 func modulusValid(m int) bool {
 	return 1 <= m && m <= NumberMax
 }
@@ -125,13 +136,8 @@ func CoreOf(n int) (int, int, bool) {
 	if !number(n).factored() {
 		return 0, 0, false
 	}
-	root := 1
-	for p, k := range number(n).primePowers() {
-		for range k / 2 {
-			root *= p
-		}
-	}
-	return n / (root * root), root, true
+	core, root := number(n).core()
+	return core, root, true
 }
 
 // SquareIs reports whether a number is the square of an integer.
