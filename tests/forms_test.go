@@ -236,7 +236,7 @@ func TestFormSame(t *testing.T) {
 	}
 	// Each of these is told apart by one rule alone: the discriminant, the signs, or the invariant at one of the places of one of both.
 	for _, c := range [][2][]int{
-		{{1, 29}, {1, 23}}, {{2, 2}, {-2, -2}}, {{1, 1}, {3, 3}}, {{3, 3}, {1, 1}}, {{1, 1, 1}, {1, 11, 11}}, {{1, 1, 11, 11}, {1, 1, 1, 1}}, {{1, 1, 1, 1}, {1, 1, 23, 23}},
+		{{1, 29}, {1, 23}}, {{2, 2}, {-2, -2}}, {{1, 1, 1, 1}, {-1, -1, -1, -1}}, {{7, 7, 7, 7}, {-7, -7, -7, -7}}, {{1, 1}, {3, 3}}, {{3, 3}, {1, 1}}, {{1, 1, 1}, {1, 11, 11}}, {{1, 1, 11, 11}, {1, 1, 1, 1}}, {{1, 1, 1, 1}, {1, 1, 23, 23}},
 	} {
 		if impl.FormSame(c[0], c[1]) {
 			t.Errorf("FormSame(%v, %v) holds", c[0], c[1])
