@@ -53,16 +53,16 @@ func (n number) primePowers() iter.Seq2[int, int] {
 	}
 }
 
-func (n number) prime() bool {
-	if n < 2 || !n.valid() {
-		return false
-	}
-	least := 0
+// leastPrime returns the least prime that divides a number, or 0 for 0, 1 and -1.
+func (n number) leastPrime() int {
 	for p := range n.primePowers() {
-		least = p
-		break
+		return p
 	}
-	return least == int(n)
+	return 0
+}
+
+func (n number) prime() bool {
+	return n >= 2 && n.valid() && n.leastPrime() == int(n)
 }
 
 func (n number) oddPrime() bool {
@@ -100,6 +100,29 @@ func (n number) core() (int, int) {
 		}
 	}
 	return int(n) / (root * root), root
+}
+
+// common returns the greatest integer that divides both, 0 for both 0. They may be greater than numbers, as the integers of zeros are.
+func (n number) common(m int) int {
+	x, y := n.size(), number(m).size()
+	for y != 0 {
+		x, y = y, x%y
+	}
+	return x
+}
+
+// squareRoot returns the integer from 0 on whose square an integer is, and false if there is none. It may be greater than a number, as values of forms are.
+func (n number) squareRoot() (int, bool) {
+	if n < 0 {
+		return 0, false
+	}
+	square := int(n)
+	x := square
+	// Newton's steps from above stop at the greatest integer whose square is not greater.
+	for x*x > square {
+		x = (x + square/x) / 2
+	}
+	return x, x*x == square
 }
 
 func modulusValid(m int) bool {
@@ -145,11 +168,8 @@ func SquareIs(n int) bool {
 	if !number(n).valid() {
 		return false
 	}
-	x := 0
-	for x*x < n {
-		x++
-	}
-	return x*x == n
+	_, ok := number(n).squareRoot()
+	return ok
 }
 
 // PowerMod returns the rest, from 0 on, of a number to the power of an exponent of at least 0, by a modulus from 1 to NumberMax, and true.
@@ -241,9 +261,5 @@ func GcdOf(a int, b int) int {
 	if !number(a).valid() || !number(b).valid() {
 		return -1
 	}
-	x, y := number(a).size(), number(b).size()
-	for y != 0 {
-		x, y = y, x%y
-	}
-	return x
+	return number(a).common(b)
 }

@@ -380,6 +380,17 @@ func noComponents() []int {
 	return []int{1001, -1001, 1002, 5000, -5000, 1 << 16, 1 << 32, 1<<32 + 1, math.MaxInt, math.MinInt, math.MinInt + 1}
 }
 
+// eachLimitVector calls a function for vectors of -1 but for one integer, near or beyond the limits of FormValue, and tells whether it is in range.
+func eachLimitVector(n int, use func(v []int, x int, inRange bool)) {
+	for i := range n {
+		for _, x := range append(noComponents(), 1000, -1000, 999, 0) {
+			v := slices.Repeat([]int{-1}, n)
+			v[i] = x
+			use(v, x, x >= -vectorMax && x <= vectorMax)
+		}
+	}
+}
+
 func mustSigns(t *testing.T, form []int) int {
 	t.Helper()
 	signs, ok := impl.FormSigns(form)

@@ -50,19 +50,15 @@ func TestFormValue(t *testing.T) {
 
 func TestFormValueLimits(t *testing.T) {
 	for n := 1; n <= termsMax; n++ {
-		for i := range n {
-			for _, x := range append(noComponents(), 1000, -1000, 999, 0) {
-				v := slices.Repeat([]int{-1}, n)
-				v[i] = x
-				want, wantOk := 0, x >= -vectorMax && x <= vectorMax
-				if wantOk {
-					want = 30 * (n - 1 + x*x)
-				}
-				if got, ok := impl.FormValue(slices.Repeat([]int{30}, n), v); got != want || ok != wantOk {
-					t.Errorf("FormValue of %d terms 30 is %d, %t at %v", n, got, ok, v)
-				}
+		eachLimitVector(n, func(v []int, x int, inRange bool) {
+			want := 0
+			if inRange {
+				want = 30 * (n - 1 + x*x)
 			}
-		}
+			if got, ok := impl.FormValue(slices.Repeat([]int{30}, n), v); got != want || ok != inRange {
+				t.Errorf("FormValue of %d terms 30 is %d, %t at %v", n, got, ok, v)
+			}
+		})
 		for other := range 7 {
 			if got, ok := impl.FormValue(ones(n), ones(other)); ok != (n == other) || !ok && got != 0 {
 				t.Errorf("FormValue of %d terms is %d, %t at a vector of %d integers", n, got, ok, other)
